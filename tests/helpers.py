@@ -1,6 +1,7 @@
 """What the tests share: slow answers by other ways, values that are wrong, and a check of all wrong arguments."""
 from fractions import Fraction
 from functools import cmp_to_key
+from math import lcm
 
 
 class Odd:
@@ -45,12 +46,9 @@ def spot(point):
 
 
 def pt(x, y):
-    """The point with the coordinates x and y."""
+    """The point with the coordinates x and y: over the least bottom that both have in common."""
     x, y = Fraction(x), Fraction(y)
-    w = x.denominator * y.denominator
-    for prime in range(2, w + 1):
-        while w % prime == 0 and (x * (w // prime)).denominator == 1 and (y * (w // prime)).denominator == 1:
-            w //= prime
+    w = lcm(x.denominator, y.denominator)
     return (int(x * w), int(y * w), w)
 
 
@@ -65,17 +63,14 @@ def on_stretch(p, a, b):
 
 
 def in_hull(p, spots):
-    """Whether p is in the hull of the spots: on a stretch between two of them, or in a triangle of three."""
-    for a in spots:
-        for b in spots:
-            if on_stretch(p, a, b):
-                return True
-    for a in spots:
-        for b in spots:
-            for c in spots:
-                if cross(a, b, c) > 0 and cross(a, b, p) >= 0 and cross(b, c, p) >= 0 and cross(c, a, p) >= 0:
-                    return True
-    return False
+    """Whether p is in the hull of the spots: it is not if from p all of them lie within less than half a turn."""
+    return p in spots or (spots != [] and not any(all(is_seen_left(p, a, b) for b in spots) for a in spots))
+
+
+def is_seen_left(p, a, b):
+    """Whether from p the spot b lies in the direction of a, or to the left of it."""
+    left = cross(p, a, b)
+    return left > 0 or (left == 0 and (a[0] - p[0]) * (b[0] - p[0]) + (a[1] - p[1]) * (b[1] - p[1]) > 0)
 
 
 def inside_hull(p, spots):
@@ -91,11 +86,12 @@ def inside_hull(p, spots):
 
 def slow_hull(points):
     """The polygon by the words of [8]: the points that are in the hull of no others, in their round."""
-    spots = sorted(set(spot(point) for point in points))
+    bottom = lcm(*[point[2] for point in points])
+    spots = sorted(set((x * (bottom // w), y * (bottom // w)) for x, y, w in points))
     corners = [s for s in spots if not in_hull(s, [t for t in spots if t != s])]
     first = corners[0]
     rest = sorted(corners[1:], key=cmp_to_key(lambda a, b: -1 if cross(first, a, b) > 0 else 1))
-    return tuple(pt(*s) for s in [first] + rest)
+    return tuple(pt(Fraction(x, bottom), Fraction(y, bottom)) for x, y in [first] + rest)
 
 
 def slow_sum(one, two):
