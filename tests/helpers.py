@@ -169,6 +169,20 @@ def slow_time(figure, way):
     return best
 
 
+def slow_after(water, here, hour):
+    """The places after an hour, from those of a polygon; None for none."""
+    if here is None:
+        return None
+    return slow_afloat(water, slow_sum(here, slow_scaled(hour[0], num(hour[1]))))
+
+
+def slow_reached(water, hours, start):
+    here = slow_afloat(water, start)
+    for hour in hours:
+        here = slow_after(water, here, hour)
+    return here
+
+
 def random_point(rng, size=4, parts=(1, 1, 2, 3)):
     w = rng.choice(parts)
     return pt(Fraction(rng.randint(-size * w, size * w), w), Fraction(rng.randint(-size * w, size * w), w))
@@ -233,6 +247,11 @@ def wrong_given(values, error):
 def wrong_index(rows, error):
     return [(value, error, "index", index) for value, index in rows]
 
+
+NOT_HOUR = ANY + [
+    (TRIANGLE,), (TRIANGLE, (1, 1), (1, 1)), [TRIANGLE, (1, 1)], (TRIANGLE, [1, 1]), ((1, 1), TRIANGLE),
+    (TRIANGLE, (0, 1)), (TRIANGLE, 1)] + [(wrong, (1, 1)) for wrong in NOT_POLYGON] + [
+    (TRIANGLE, wrong) for wrong in NOT_TIME]
 
 NO_TUPLES = [value for value in ANY if not isinstance(value, tuple)]
 
