@@ -183,6 +183,68 @@ def slow_reached(water, hours, start):
     return here
 
 
+def slow_words(weather, many):
+    """All pairs of a word of so many hours and the state after it, hour by hour."""
+    found = [((), 0)]
+    for _ in range(many):
+        found = [(word + (wind,), later) for word, state in found for wind, later in weather[state]]
+    return found
+
+
+def random_weather(rng, states=3, winds=4):
+    many = rng.randint(1, states)
+    return tuple(tuple((wind, rng.randrange(many)) for wind in rng.sample(range(winds), rng.randint(1, min(3, winds))))
+                 for _ in range(many))
+
+
+def slow_enters(isle, start, goal):
+    """Whether the leg has a point inside the isle: tried at each place where it meets a line, and between these."""
+    (x, y), (u, v) = spot(start), spot(goal)
+    bounds = [(h - a * x - b * y, h - a * u - b * v) for a, b, h in slow_sides(isle)]
+    tries = {Fraction(0), Fraction(1)}
+    for first, last in bounds:
+        if first != last:
+            tries.add(first / (first - last))
+    tries = sorted(t for t in tries if 0 <= t <= 1)
+    tries += [(s + t) / 2 for s, t in zip(tries, tries[1:])]
+    return any(all(first + t * (last - first) > 0 for first, last in bounds) for t in tries)
+
+
+def slow_free(isles, start, goal):
+    return not any(slow_enters(isle, start, goal) for isle in isles)
+
+
+def random_isle(rng, size=5, wide=2):
+    while True:
+        x, y = rng.randint(-size, size), rng.randint(-size, size)
+        found = slow_hull([pt(x + rng.randint(0, 2 * wide) * Fraction(1, rng.choice((1, 2))),
+                              y + rng.randint(0, 2 * wide) * Fraction(1, rng.choice((1, 2))))
+                           for _ in range(rng.randint(3, 8))])
+        if 3 <= len(found) <= 6:
+            return found
+
+
+def random_isles(rng, most=4, size=5, wide=2):
+    found = []
+    for _ in range(rng.randint(0, most)):
+        isle = random_isle(rng, size, wide)
+        if all(slow_common(isle, other) is None for other in found):
+            found.append(isle)
+    return tuple(found)
+
+
+def random_outside(rng, isles, size=6):
+    """A point inside no isle; a corner or a point of a rim, now and then."""
+    while True:
+        point = random_point(rng, size, (1, 1, 2))
+        if isles and rng.random() < 0.3:
+            isle = rng.choice(isles)
+            (x, y), (u, v) = spot(isle[0]), spot(isle[-1])
+            point = rng.choice([rng.choice(isle), pt((x + u) / 2, (y + v) / 2)])
+        if slow_free(isles, point, point):
+            return point
+
+
 def random_point(rng, size=4, parts=(1, 1, 2, 3)):
     w = rng.choice(parts)
     return pt(Fraction(rng.randint(-size * w, size * w), w), Fraction(rng.randint(-size * w, size * w), w))
@@ -253,7 +315,37 @@ NOT_HOUR = ANY + [
     (TRIANGLE, (0, 1)), (TRIANGLE, 1)] + [(wrong, (1, 1)) for wrong in NOT_POLYGON] + [
     (TRIANGLE, wrong) for wrong in NOT_TIME]
 
+STATE = ((0, 0), (1, 0))
+NOT_WEATHER = ANY + [
+    (STATE, STATE, STATE, STATE), ((),), (STATE, ()), (STATE, None), [STATE], (list(STATE),), STATE, (0, 0), ((0, 0),),
+    (((0, 0), (1, 0), (2, 0), (3, 0), (3, 0)),), (((0, 0), (0, 0)),), (STATE, ((2, 1), (2, 0))), (((4, 0),),),
+    (((-1, 0),),), (((0, 1),),), (((0, -1),),), (STATE, ((0, 2),)), (((0, 0), [1, 0]),), (((0,),),), (((0, 0, 0),),)
+] + [(((wrong, 0),),) for wrong in WRONG_WHOLES] + [(((0, wrong),),) for wrong in WRONG_WHOLES] + [
+    (STATE, ((1, wrong),)) for wrong in WRONG_WHOLES]
+NOT_MANY = ANY + [7, 8, -1, (1,), [1], "3", 10 ** 39]
+NOT_MANY = [value for value in NOT_MANY if not (type(value) is int and 1 <= value <= 6)]
+
+ISLE = ((1, -1, 1), (3, -1, 1), (2, 2, 1))
+SEVEN_CORNERS = slow_hull([(x, x * x, 4) for x in range(7)])
+ROW = tuple(((k, 0, 1), (2 * k + 1, 0, 2), (k, 1, 1)) for k in range(10, 16))
+NOT_ISLE = NOT_POLYGON + [((9, 9, 1),), ((9, 9, 1), (9, 10, 1)), SEVEN_CORNERS]
+# Each has a point in common with ISLE: the same, a corner, an edge, a part, one inside, one around.
+TOUCHING = [ISLE, ((3, -1, 1), (4, -1, 1), (4, 0, 1)), ((1, -2, 1), (3, -2, 1), (3, -1, 1), (1, -1, 1)),
+            ((1, -2, 1), (4, -2, 1), (4, -1, 1), (2, -1, 1)), ((2, 0, 1), (9, 0, 1), (9, 1, 1)),
+            ((2, -1, 2), (3, -1, 2), (2, 1, 1)), ((3, 0, 2), (5, 0, 2), (2, 1, 2)), ((-9, -9, 1), (9, -9, 1), (2, 9, 1)),
+            ((2, 2, 1), (3, 3, 1), (1, 3, 1)), ((3, 1, 2), (3, 2, 1), (0, 2, 1), (0, 1, 1))[::-1]]
+TOUCHING = [slow_hull(list(isle)) for isle in TOUCHING]
 NO_TUPLES = [value for value in ANY if not isinstance(value, tuple)]
+
+
+def not_isles():
+    """What is no isles, with the index of the first isle that is wrong."""
+    rows = [(value, None) for value in NO_TUPLES + [[], [ISLE]]]
+    rows += [((ISLE,) + ROW[:at] + (wrong,) + ROW[at:2], at + 1) for at in range(3) for wrong in NOT_ISLE]
+    rows += [((wrong,), 0) for wrong in NOT_ISLE]
+    rows += [((ISLE,) + ROW[:at] + (wrong,), at + 1) for at in range(3) for wrong in TOUCHING]
+    rows += [(ROW + (wrong,), 6) for wrong in (ISLE, None, ROW[0], ((0, 0, 1),))] + [(ROW + (ISLE, None), 6)]
+    return rows + [((ISLE, ROW[0], None, ISLE), 2), ((ISLE, ROW[0], ISLE, None), 2), (ROW[:5] + (None, ISLE), 5)]
 
 
 def check_raised(test, error, attribute, told, call, *arguments, **named):
