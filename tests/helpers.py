@@ -245,6 +245,33 @@ def random_outside(rng, isles, size=6):
             return point
 
 
+def slow_way_time(figure, start, goal):
+    (x, y), (u, v) = spot(start), spot(goal)
+    return slow_time(figure, pt(u - x, v - y))
+
+
+def slow_table(figure, isles, places):
+    """The soonest times from each place to each, by ever longer ways over the places; None for endless."""
+    table = [[slow_way_time(figure, here, there) if slow_free(isles, here, there) else None for there in places]
+             for here in places]
+    for over in range(len(places)):
+        for here in range(len(places)):
+            for there in range(len(places)):
+                one, two, now = table[here][over], table[over][there], table[here][there]
+                if one is not None and two is not None and (now is None or one + two < now):
+                    table[here][there] = one + two
+    return table
+
+
+def slow_soonest(figure, isles, start, goal):
+    corners = tuple(corner for isle in isles for corner in isle)
+    return slow_table(figure, isles, (start,) + corners + (goal,))[0][-1]
+
+
+def told_time(time):
+    return None if time is None else pair(time)
+
+
 def random_point(rng, size=4, parts=(1, 1, 2, 3)):
     w = rng.choice(parts)
     return pt(Fraction(rng.randint(-size * w, size * w), w), Fraction(rng.randint(-size * w, size * w), w))
