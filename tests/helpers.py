@@ -298,11 +298,11 @@ WRONG_WHOLES = [True, "1", None, b"1", (1,), [1], Odd()]
 NOT_FRACTION = ANY + [(1,), (1, 0), (0, 0), (1, -1), (-1, -2), (2, 2), (0, 2), (2, 4), [1, 2], (1, 2, 1)] + [
     (wrong, 2) for wrong in WRONG_WHOLES] + [(2, wrong) for wrong in WRONG_WHOLES]
 NOT_TIME = NOT_FRACTION + [(-1, 1), (-2, 3)]
-NOT_POINT = ANY + [(0, 0), (0, 0, 0), (0, 0, -1), (0, 0, 2), (2, 4, 2), (1, 1, -1), [0, 0, 1], (0, 0, 1, 1),
+NOT_POINT = ANY + [(0, 0), (0, 0, 0), (1, 0, 0), (0, -1, 0), (2, 3, 0), (0, 0, -1), (0, 0, 2), (2, 4, 2), (1, 1, -1), [0, 0, 1], (0, 0, 1, 1),
                    ((0, 0, 1),), (1, 2)] + [
     (wrong, 2, 1) for wrong in WRONG_WHOLES] + [(2, wrong, 1) for wrong in WRONG_WHOLES] + [
     (2, 0, wrong) for wrong in WRONG_WHOLES]
-NOT_SIDE = ANY + [(0, 0, 1), (0, 0, 0), (2, 0, 4), (2, 2, 0), [1, 0, 1], (1, 0), (1, 0, 1, 1)] + [
+NOT_SIDE = ANY + [(0, 0, 1), (0, 0, -1), (0, 0, 0), (2, 0, 4), (2, 2, 0), [1, 0, 1], (1, 0), (1, 0, 1, 1)] + [
     (wrong, 1, 1) for wrong in WRONG_WHOLES] + [(1, wrong, 1) for wrong in WRONG_WHOLES] + [
     (1, 1, wrong) for wrong in WRONG_WHOLES]
 NOT_NORMAL = ANY + [(0, 0), (1,), (1, 0, 1), [1, 0]] + [(wrong, 1) for wrong in WRONG_WHOLES] + [

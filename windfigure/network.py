@@ -6,11 +6,11 @@ from windfigure.shapes import shape_sides
 
 
 def leg_times(figure, isles, places):
-    """For each place, a list with the time of the leg to each place; None if it is endless or not free."""
+    """For each place, a list with the time of the leg to each other place; None if it is endless or not free."""
     sides, barriers = shape_sides(figure), barriers_of(isles)
     table = [[None for there in places] for here in places]
     for i in range(len(places)):
-        for j in range(i + 1):
+        for j in range(i):
             if leg_is_free(barriers, places[i], places[j]):
                 table[i][j] = time_by_sides(sides, point_gap(places[j], places[i]))
                 table[j][i] = time_by_sides(sides, point_gap(places[i], places[j]))
@@ -33,8 +33,6 @@ def soonest_from(table, source):
     waiting = list(range(len(table)))
     while waiting:
         here = soonest_of(waiting, found)
-        if found[here] is None:
-            break
         waiting.remove(here)
         for there in waiting:
             total = time_sum(found[here], table[here][there])

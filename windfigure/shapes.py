@@ -111,19 +111,13 @@ def shape_sum(one, two):
 
 
 def edge_order(one, two):
-    """Below 0 if the first edge is the earlier one, above 0 if the other one is, 0 if both have one direction."""
+    """Below 0 if the first edge is the earlier one, above 0 if the other one is, 0 if both have one direction.
+
+    The edges that the walk compares lie less than half a turn apart: from one edge to the next one a polygon turns by
+    less than that, or by just that for a stretch, and the first edges of both lead away from the least corners.
+    """
     (u, v), (s, t) = one, two
-    halves = falls_back(u, v) - falls_back(s, t)
-    if halves != 0:
-        return halves
     return v * s - u * t
-
-
-def falls_back(u, v):
-    """0 for the edges on the way from the least corner to the greatest one, 1 for those on the way back."""
-    if u > 0 or (u == 0 and v > 0):
-        return 0
-    return 1
 
 
 def shape_cut(corners, side):
