@@ -6,6 +6,8 @@ from pathlib import Path
 
 PACKAGE = Path(__file__).resolve().parent.parent / "windfigure"
 FILES = sorted(PACKAGE.glob("*.py"))
+# Some shells and test runners put the name _ among the builtins.
+PYTHONS_OWN = set(dir(builtins)) - {"_"}
 LIBRARY = {("math", "gcd"), ("math", "lcm"), ("itertools", "permutations")}
 BUILTINS = set("""len range enumerate zip min max sum abs sorted reversed int str bool bytes list tuple dict set isinstance
 any all divmod ValueError""".split())
@@ -118,11 +120,11 @@ class Names(unittest.TestCase):
         for path, tree in trees():
             names = defined_in(tree) + [alias.name for node in imports_of(tree) for alias in node.names]
             self.assertEqual(sorted(names), sorted(set(names)), path.name)
-            self.assertFalse(set(names) & set(dir(builtins)), path.name)
+            self.assertFalse(set(names) & PYTHONS_OWN, path.name)
 
     def test_no_local_name_hides_another_one(self):
         for path, tree in trees():
-            taken = {alias.name for node in imports_of(tree) for alias in node.names} | set(dir(builtins))
+            taken = {alias.name for node in imports_of(tree) for alias in node.names} | PYTHONS_OWN
             taken |= {node.name for node in tree.body if isinstance(node, ast.ClassDef)}
             for function in functions_of(tree):
                 self.assertFalse(taken & set(bound_in(function)), (path.name, function.name))
