@@ -297,16 +297,20 @@ WRONG_WHOLES = [True, "1", None, b"1", (1,), [1], Odd()]
 
 NOT_FRACTION = ANY + [(1,), (1, 0), (0, 0), (1, -1), (-1, -2), (2, 2), (0, 2), (2, 4), [1, 2], (1, 2, 1)] + [
     (wrong, 2) for wrong in WRONG_WHOLES] + [(2, wrong) for wrong in WRONG_WHOLES]
+NOT_FRACTION += [(False, 1), (False, True), (0, True)]
 NOT_TIME = NOT_FRACTION + [(-1, 1), (-2, 3)]
-NOT_POINT = ANY + [(0, 0), (0, 0, 0), (1, 0, 0), (0, -1, 0), (2, 3, 0), (0, 0, -1), (0, 0, 2), (2, 4, 2), (1, 1, -1), [0, 0, 1], (0, 0, 1, 1),
-                   ((0, 0, 1),), (1, 2)] + [
+NOT_POINT = ANY + [(0, 0), (0, 0, 0), (1, 0, 0), (0, -1, 0), (2, 3, 0), (0, 0, -1), (0, 0, 2), (2, 4, 2), (1, 1, -1),
+                   [0, 0, 1], (0, 0, 1, 1), ((0, 0, 1),), (1, 2)] + [
     (wrong, 2, 1) for wrong in WRONG_WHOLES] + [(2, wrong, 1) for wrong in WRONG_WHOLES] + [
     (2, 0, wrong) for wrong in WRONG_WHOLES]
+NOT_POINT += [(False, 0, 1), (0, False, 1), (0, 0, True), (False, False, True)]
 NOT_SIDE = ANY + [(0, 0, 1), (0, 0, -1), (0, 0, 0), (2, 0, 4), (2, 2, 0), [1, 0, 1], (1, 0), (1, 0, 1, 1)] + [
     (wrong, 1, 1) for wrong in WRONG_WHOLES] + [(1, wrong, 1) for wrong in WRONG_WHOLES] + [
     (1, 1, wrong) for wrong in WRONG_WHOLES]
+NOT_SIDE += [(1, 0, False), (False, 1, 0), (1, False, 0)]
 NOT_NORMAL = ANY + [(0, 0), (1,), (1, 0, 1), [1, 0]] + [(wrong, 1) for wrong in WRONG_WHOLES] + [
     (1, wrong) for wrong in WRONG_WHOLES]
+NOT_NORMAL += [(False, 1), (1, False), (True, True)]
 NOT_DIRECTION = NOT_NORMAL + [(2, 0), (0, -2), (4, 6)]
 
 TRIANGLE = ((0, 0, 1), (2, 0, 1), (0, 2, 1))
@@ -349,6 +353,7 @@ NOT_WEATHER = ANY + [
     (((-1, 0),),), (((0, 1),),), (((0, -1),),), (STATE, ((0, 2),)), (((0, 0), [1, 0]),), (((0,),),), (((0, 0, 0),),)
 ] + [(((wrong, 0),),) for wrong in WRONG_WHOLES] + [(((0, wrong),),) for wrong in WRONG_WHOLES] + [
     (STATE, ((1, wrong),)) for wrong in WRONG_WHOLES]
+NOT_WEATHER += [(((False, 0),),), (((0, False),),)]
 NOT_MANY = ANY + [7, 8, -1, (1,), [1], "3", 10 ** 39]
 NOT_MANY = [value for value in NOT_MANY if not (type(value) is int and 1 <= value <= 6)]
 
