@@ -8,10 +8,10 @@ PACKAGE = Path(__file__).resolve().parent.parent / "windfigure"
 FILES = sorted(PACKAGE.glob("*.py"))
 # Some shells and test runners put the name _ among the builtins.
 PYTHONS_OWN = set(dir(builtins)) - {"_"}
-LIBRARY = {("math", "gcd"), ("math", "lcm"), ("itertools", "permutations")}
+LIBRARY = {("math", "gcd"), ("math", "lcm"), ("itertools", "permutations"), ("itertools", "combinations")}
 BUILTINS = set("""len range enumerate zip min max sum abs sorted reversed int str bool bytes list tuple dict set isinstance
 any all divmod ValueError""".split())
-METHODS = {"append", "pop", "remove", "__init__"}
+METHODS = {"append", "insert", "pop", "remove", "__init__"}
 BARRED = set("""type typing enum Enum Flag Generic Protocol ABC namedtuple dataclass overload contextmanager register mro
 elements open input law id dir vars eval exec compile help super sys os gc""".split())
 FUNCTIONS = (ast.FunctionDef, ast.Lambda)

@@ -2,6 +2,7 @@
 from math import gcd
 
 ZERO = (0, 1)
+ONE = (1, 1)
 NOUGHT = (0, 0, 1)
 
 
@@ -30,8 +31,27 @@ def ratio_gap(one, two):
     return ratio(one[0] * two[1] - two[0] * one[1], one[1] * two[1])
 
 
+def ratio_product(one, two):
+    return ratio(one[0] * two[0], one[1] * two[1])
+
+
+def ratio_part(one, two):
+    """The first fraction divided by the other one, which is not 0."""
+    return ratio(one[0] * two[1], one[1] * two[0])
+
+
+def rounded_up(fraction):
+    return -(-fraction[0] // fraction[1])
+
+
 def is_less(one, two):
     return one[0] * two[1] < two[0] * one[1]
+
+
+def lesser(one, two):
+    if is_less(two, one):
+        return two
+    return one
 
 
 def is_sooner(one, two):
@@ -70,6 +90,11 @@ def point_times(point, fraction):
     return point_of(x * fraction[0], y * fraction[0], w * fraction[1])
 
 
+def point_between(one, two, fraction):
+    """The first point plus the fraction of the way to the other one."""
+    return point_sum(one, point_times(point_gap(two, one), fraction))
+
+
 def is_before(one, two):
     """Whether the first point is less: by its number x, and by y where these are equal."""
     east = one[0] * two[2] - two[0] * one[2]
@@ -103,3 +128,28 @@ def turn(one, two, three):
     """Above 0 if the third point lies to the left of the way from the first to the second, below 0 to the right."""
     (x, y, w), (u, v) = one, course_to(one, two)
     return u * (three[1] * w - y * three[2]) - v * (three[0] * w - x * three[2])
+
+
+def parts_along(one, two, way):
+    """The fractions s and t with s * one + t * two = way; None if one line through nought has both."""
+    (x, y, w), (u, v, t), (p, q, r) = one, two, way
+    area = x * v - y * u
+    if area == 0:
+        return None
+    return (ratio((p * v - q * u) * w, area * r), ratio((x * q - y * p) * t, area * r))
+
+
+def in_order(values, comes_before):
+    """The values, each once, ordered by a function that tells whether one of them comes before another one."""
+    found = []
+    for value in values:
+        low, high = 0, len(found)
+        while low < high:
+            middle = (low + high) // 2
+            if comes_before(found[middle], value):
+                low = middle + 1
+            else:
+                high = middle
+        if low == len(found) or found[low] != value:
+            found.insert(low, value)
+    return found

@@ -1,6 +1,6 @@
 """Hours: where a boat can be after given hours in a water, and when it can first be somewhere."""
 from windfigure.errors import InvalidHours, InvalidPlaces, InvalidTime
-from windfigure.exact import ZERO, is_less, point_gap, point_times, ratio, ratio_gap, ratio_sum
+from windfigure.exact import ZERO, is_less, lesser, point_gap, point_times, ratio, ratio_gap, ratio_sum
 from windfigure.points import is_time, need_time
 from windfigure.polygons import first_no_point, is_polygon, need_polygon, need_water
 from windfigure.shapes import (shape_afloat, shape_common, shape_holds, shape_moved, shape_opposite, shape_scaled,
@@ -109,12 +109,6 @@ def hours_from(hours, time):
         if gone != length:
             kept.append((velocities, ratio_gap(length, gone)))
     return tuple(kept)
-
-
-def lesser(one, two):
-    if is_less(two, one):
-        return two
-    return one
 
 
 def earliest(water, hours, start, goal):

@@ -1,10 +1,11 @@
 """Fractions, points, sides and directions; and the errors for what is none of them."""
 from math import gcd
 
+from windfigure.angles import direction_along, stands_before
 from windfigure.errors import (InvalidDirection, InvalidFraction, InvalidNormal, InvalidPoint, InvalidSide,
                                InvalidTime, Same)
-from windfigure.exact import (along, are_whole, course_to, overshoot, point_gap, point_of, point_sum,
-                              point_times, ratio, side_of, turn)
+from windfigure.exact import (NOUGHT, along, are_whole, course_to, overshoot, point_between, point_gap, point_of,
+                              point_sum, point_times, ratio, side_of, turn)
 
 
 def is_fraction(value):
@@ -64,26 +65,15 @@ def need_direction(value):
 
 def direction_of(way):
     need_point(way)
-    common = gcd(way[0], way[1])
-    if common == 0:
+    if way == NOUGHT:
         return None
-    return (way[0] // common, way[1] // common)
+    return direction_along(way[0], way[1])
 
 
 def is_earlier(direction, other):
     need_direction(direction)
     need_direction(other)
-    half, its_half = half_turn(direction), half_turn(other)
-    if half != its_half:
-        return half < its_half
-    return direction[0] * other[1] - direction[1] * other[0] > 0
-
-
-def half_turn(direction):
-    """0 for the angles from 0 up to below half a turn, 1 for the others."""
-    if direction[1] > 0 or (direction[1] == 0 and direction[0] > 0):
-        return 0
-    return 1
+    return stands_before(direction, other)
 
 
 def point_at(east, north):
@@ -114,7 +104,7 @@ def between(point, other, fraction):
     need_point(point)
     need_point(other)
     need_fraction(fraction)
-    return point_sum(point, point_times(point_gap(other, point), fraction))
+    return point_between(point, other, fraction)
 
 
 def sense(point, other, third):

@@ -1,9 +1,9 @@
 """Polygons: hulls, sides, supports, sums, common parts."""
 from windfigure.errors import InvalidFraction, InvalidPoints, InvalidPolygon, InvalidWater
-from windfigure.exact import NOUGHT, ZERO, is_less, overshoot, point_sum, point_times
+from windfigure.exact import NOUGHT, ZERO, is_less, point_sum, point_times
 from windfigure.points import is_point, need_fraction, need_normal, need_point, need_side
-from windfigure.shapes import (shape_area, shape_common, shape_cut, shape_holds, shape_hull, shape_moved,
-                               shape_opposite, shape_scaled, shape_sides, shape_sum, shape_support)
+from windfigure.shapes import (shape_area, shape_common, shape_cut, shape_has_within, shape_holds, shape_hull,
+                               shape_moved, shape_opposite, shape_scaled, shape_sides, shape_sum, shape_support)
 
 
 def first_no_point(values):
@@ -53,7 +53,7 @@ def holds(polygon, point):
 def is_within(polygon, point):
     need_polygon(polygon)
     need_point(point)
-    return all([overshoot(side, point) < 0 for side in shape_sides(polygon)])
+    return shape_has_within(polygon, point)
 
 
 def support_of(polygon, normal):

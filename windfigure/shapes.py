@@ -73,6 +73,11 @@ def shape_holds(corners, point):
     return all([overshoot(side, point) <= 0 for side in shape_sides(corners)])
 
 
+def shape_has_within(corners, point):
+    """Whether the polygon holds the point, and the point is on the line of no side."""
+    return all([overshoot(side, point) < 0 for side in shape_sides(corners)])
+
+
 def shape_moved(corners, way):
     return tuple([point_sum(corner, way) for corner in corners])
 
