@@ -57,8 +57,8 @@ SOME_DIRECTIONS = sorted({reduced(x, y) for x in range(-4, 5) for y in range(-4,
 
 
 def many_directions(*more):
-    """Directions all round, those told, and some between each two neighbours of all these; in their order."""
-    found = sorted(set(SOME_DIRECTIONS) | set(more), key=turn_key)
+    """The axes and the directions told, and some between each two neighbours of all these; in their order."""
+    found = sorted({(1, 0), (0, 1), (-1, 0), (0, -1)} | set(more), key=turn_key)
     return [direction for k in range(len(found))
             for direction in (found[k - 1], slow_amid(found[k - 1], found[k]))]
 

@@ -71,6 +71,98 @@ WEATHERS = """
 [((0, -1, 1), (1, 0, 1), (0, 1, 1)), True, False, (1, 0, 1)]
 """
 
+FIGURES = """
+>>> from windfigure.figures import can_stay, figure_of, tacks_of, made_by, side_met, steered, time_of, times_in_streams
+>>> KITE = figure_of(((-1, 0, 1), (1, -2, 1), (3, 0, 1), (1, 2, 1)))
+>>> RUNNER = figure_of(((2, 0, 1), (0, 2, 1)))
+>>> [time_of(KITE, (6, 0, 1)), side_met(KITE, (6, 0, 1)), tacks_of(KITE, (6, 0, 1)), tacks_of(KITE, (-2, 2, 1))]
+[(2, 1), (1, -1, 3), (((3, 0, 1), (2, 1)),), (((1, 2, 1), (1, 1)), ((-1, 0, 1), (3, 1)))]
+>>> [made_by(tacks_of(KITE, (-2, 2, 1))), time_of(RUNNER, (3, 1, 1)), time_of(RUNNER, (-1, 0, 1)), RUNNER]
+[((-2, 2, 1), (4, 1)), (2, 1), None, ((0, 0, 1), (2, 0, 1), (0, 2, 1))]
+>>> [times_in_streams(KITE, ((-1, 0, 1), (1, 0, 1)), (6, 0, 1)), times_in_streams(RUNNER, ((1, 0, 1),), (2, 0, 1)), times_in_streams(RUNNER, ((1, 0, 1),), (0, 0, 1)), times_in_streams(RUNNER, ((1, 0, 1),), (-1, 0, 1))]
+[((3, 1), None), ((2, 3), (2, 1)), ((0, 1), (0, 1)), None]
+>>> [steered(KITE, (1, 0, 1), (2, 0, 1)), steered(KITE, (1, 0, 1), (5, 0, 1)), can_stay(KITE, ((1, 0, 1),)), can_stay(RUNNER, ((1, 0, 1),))]
+[(1, 0, 1), None, True, False]
+"""
+
+WINDS = """
+>>> diamond, box, wedge = ((-1, 0, 1), (0, -1, 1), (1, 0, 1), (0, 1, 1)), ((-1, -1, 1), (1, -1, 1), (1, 1, 1), (-1, 1, 1)), ((0, 0, 1), (1, -1, 1), (1, 1, 1))
+>>> east = ((1, 0, 1),)
+>>> from windfigure.winds import critical_winds, is_in_time, time_square, turned_way
+>>> [time_square(diamond, east, (1, 0)), time_square(diamond, east, (1, 1)), time_square(box, east, (1, 1)), time_square(wedge, east, (0, 1)), time_square(wedge, east, (1, 1)), is_in_time(diamond, east, (1, 1), (3, 2)), turned_way((1, 0, 1), (1, 1))]
+[(1, 1), (2, 1), (1, 2), None, (1, 2), True, (1, -1, 1)]
+>>> [critical_winds(diamond, east), critical_winds(wedge, east)]
+[((1, 0), (0, 1), (-1, 0), (0, -1)), ((1, 1), (1, -1))]
+>>> from windfigure.courses import course_polygon, made_in, pairs_of, slowest, soonest_wind, winds_in_time
+>>> [made_in(diamond, east), made_in(wedge, east), pairs_of(wedge, east), pairs_of(box, east)[0]]
+[(None, True, None, True), ((1, -1), True, (1, 1), True), ((((1, -1), True, (1, 1), True), (1, 0, 1)),), (((1, 1), True, (-1, 1), True), (0, 1, 1))]
+>>> [course_polygon(diamond, east), course_polygon(box, east), course_polygon(wedge, east)]
+[((-1, -1, 1), (1, -1, 1), (1, 1, 1), (-1, 1, 1)), ((-1, 0, 1), (0, -1, 1), (1, 0, 1), (0, 1, 1)), None]
+>>> [slowest(wedge, east), slowest(diamond, east)[1], soonest_wind(diamond, east)[1], soonest_wind(wedge, east)[1]]
+[((1, 0), (1, 1)), (2, 1), (1, 1), (1, 2)]
+>>> [winds_in_time(diamond, east, (3, 2)), winds_in_time(diamond, east, (1, 1)), winds_in_time(diamond, east, (1, 2)), winds_in_time(wedge, east, (1, 1))]
+['all', 'some', 'none', 'some']
+>>> from windfigure.races import is_never_behind, race, word_in, words_on
+>>> race(wedge, east, box, east)
+((((1, 1), False, (1, -1), False), 'other'), (((1, -1), True, (1, 1), True), 'level'))
+>>> race(diamond, east, box, east)[:3]
+((((1, 0), True, (1, 0), True), 'level'), (((1, 0), False, (0, 1), False), 'other'), (((0, 1), True, (0, 1), True), 'level'))
+>>> [word_in(diamond, east, box, east, (1, 1)), is_never_behind(box, east, diamond, east), words_on(diamond, east, box, east, ((1, 0), False, (1, 1), True))]
+['other', True, ('other',)]
+"""
+
+BOATS = """
+>>> from windfigure.boats import compare_ways, handicap, handicap_paper, never_later, parting_way
+>>> DIAMOND = ((-1, 0, 1), (1, -2, 1), (3, 0, 1), (1, 2, 1))
+>>> WEDGE = ((0, 0, 1), (2, 0, 1), (0, 2, 1))
+>>> FLAT = ((0, 0, 1), (3, 0, 1), (0, 1, 1))
+>>> [never_later(DIAMOND, WEDGE), parting_way(DIAMOND, WEDGE), never_later(DIAMOND, FLAT), parting_way(DIAMOND, FLAT)]
+[False, (0, 2, 1), True, None]
+>>> [handicap(DIAMOND, WEDGE), handicap_paper(DIAMOND, WEDGE), handicap(WEDGE, DIAMOND), handicap_paper(WEDGE, DIAMOND)]
+[(2, 1), ((0, 2, 1), (-1, 1, 1)), None, ((-1, 0, 1), (-1, 0, 0))]
+>>> compare_ways(WEDGE, FLAT)
+(((1, 0), 'later', 'later'), ((3, 1), 'level', 'sooner'), ((0, 1), 'sooner', 'neither'))
+"""
+
+SAILS = """
+>>> from windfigure.sails import carriers, fewest_sails, joint_figure, tacks_with_sails, needless_sails
+>>> LOFT = (((0, 0, 1), (2, 0, 1), (0, 2, 1)), ((0, 0, 1), (3, 0, 1), (0, 1, 1)), ((0, 0, 1), (1, 0, 1), (0, 1, 1)))
+>>> [joint_figure(LOFT), carriers(LOFT), needless_sails(LOFT), fewest_sails(LOFT)]
+[((0, 0, 1), (3, 0, 1), (0, 2, 1)), ((0, 1, 2), (1,), (0,)), (2,), (0, 1)]
+>>> tacks_with_sails(LOFT, (3, 2, 1))
+((1, (3, 0, 1), (1, 1)), (0, (0, 2, 1), (1, 1)))
+"""
+
+GATES = """
+>>> from windfigure.gates import crossing_time, gate_time, kinks_of, soonest_crossing
+>>> diamond, box = ((-1, 0, 1), (0, -1, 1), (1, 0, 1), (0, 1, 1)), ((-1, -1, 1), (1, -1, 1), (1, 1, 1), (-1, 1, 1))
+>>> gate = ((2, 1, 1), (2, 5, 1))
+>>> [kinks_of((box, (0, 0, 1)), (gate,)), gate_time((box, (0, 0, 1)), (gate,), (4, 0, 1)), gate_time((diamond, (0, 0, 1)), (gate,), (4, 0, 1))]
+[(((0, 1), (2, 1)), ((1, 4), (2, 1)), ((1, 1), (5, 1))), (4, 1), (6, 1)]
+>>> [soonest_crossing((diamond, (0, 0, 1)), (gate,), (4, 0, 1)), crossing_time((diamond, (0, 0, 1)), (gate,), ((2, 3, 1),), (4, 0, 1))]
+[((2, 1, 1),), (10, 1)]
+"""
+
+CHANNELS = """
+>>> from windfigure.channels import are_runs, cross_of, dear_share, fewest_runs, rise_and_fall, runs_by_form, runs_form
+>>> from windfigure.shores import bars, embayed_by, holds_in_wind, holds_off, weather_time, weathering_runs, winds_off
+>>> tacker, channel = ((-1, 0, 1), (1, -2, 1), (1, 2, 1)), (0, 1, 0, 4)
+>>> [cross_of(channel, (3, 8, 2)), rise_and_fall(tacker, channel, (6, 0, 1)), fewest_runs(tacker, channel, (0, 1, 1), (6, 1, 1)), fewest_runs(tacker, channel, (0, 0, 1), (6, 0, 1)), fewest_runs(tacker, channel, (0, 0, 1), (1, 2, 1))]
+[(4, 1), ((6, 1), (6, 1)), 4, 4, 1]
+>>> [are_runs(tacker, channel, ((0, 1, 1), (3, 8, 2), (7, 0, 2), (5, 3, 1), (6, 1, 1))), are_runs(tacker, channel, ((0, 1, 1), (3, 7, 1), (6, 1, 1)))]
+[True, False]
+>>> form = runs_form(tacker, channel, (0, 1, 1), (1, 0, 1))
+>>> [form, runs_by_form(form, 4), runs_by_form(form, 6), dear_share(form), runs_by_form(((1, 4), (0, 1)), 4)]
+[((1, 4), (1, 4)), 3, 4, (1, 4), 2]
+>>> box, drifting = ((-1, -1, 1), (1, -1, 1), (1, 1, 1), (-1, 1, 1)), ((1, -1, 1), (3, -1, 1), (3, 1, 1), (1, 1, 1))
+>>> [holds_off(drifting, ((1, 1, 9),)), embayed_by(drifting, ((1, 0, 5),)), embayed_by(drifting, ((1, 1, 9), (1, -1, 9))), bars(drifting, ((1, 1, 9), (1, -1, 9)), (1, 1)), bars(drifting, ((1, 1, 9), (1, -1, 9)), (1, 0))]
+[True, (0, 0), (0, 1), True, False]
+>>> [winds_off(box, (1, 0, 1), (1, 0, 9)), winds_off(box, (5, 0, 4), (1, 0, 9)), winds_off(box, (2, 0, 1), (1, 0, 9)), holds_in_wind(box, (5, 0, 4), (1, 0, 9), (1, 1)), holds_in_wind(box, (5, 0, 4), (1, 0, 9), (1, 0))]
+['all', 'some', 'none', True, False]
+>>> [weather_time(box, (0, 1, 0), (0, 0, 1), (4, -1, 1)), weathering_runs(box, (0, 1, 0), (0, 0, 1), (4, -1, 1)), weather_time(box, (0, 1, 0), (4, -3, 1), (4, -1, 1))]
+[(4, 1), (1,), (0, 1)]
+"""
+
 
 class Examples(unittest.TestCase):
     def run_text(self, text):
@@ -88,6 +180,24 @@ class Examples(unittest.TestCase):
 
     def test_hours(self):
         self.run_text(HOURS)
+
+    def test_figures(self):
+        self.run_text(FIGURES)
+
+    def test_winds(self):
+        self.run_text(WINDS)
+
+    def test_boats(self):
+        self.run_text(BOATS)
+
+    def test_sails(self):
+        self.run_text(SAILS)
+
+    def test_gates(self):
+        self.run_text(GATES)
+
+    def test_channels(self):
+        self.run_text(CHANNELS)
 
     def test_isles(self):
         self.run_text(ISLES)
