@@ -1,8 +1,10 @@
 """Boats: whether one is never later than another one, by which handicap, and on which ways."""
 from windfigure.angles import amid, by_angle, direction_along, neighbours, tie_between
-from windfigure.exact import is_sooner
+from windfigure.exact import is_sooner, word_for
 from windfigure.figures import need_figure, side_by_sides, time_by_sides
 from windfigure.shapes import shape_holds, shape_sides
+
+WORDS = ("sooner", "level", "later", "neither")
 
 
 def need_boats(figure, other):
@@ -89,11 +91,4 @@ def way_along(direction):
 
 def word_along(sides, its_sides, direction):
     way = way_along(direction)
-    time, its_time = time_by_sides(sides, way), time_by_sides(its_sides, way)
-    if time is None and its_time is None:
-        return "neither"
-    if time == its_time:
-        return "level"
-    if is_sooner(time, its_time):
-        return "sooner"
-    return "later"
+    return word_for(time_by_sides(sides, way), time_by_sides(its_sides, way), WORDS)

@@ -59,6 +59,17 @@ def is_sooner(one, two):
     return one is not None and (two is None or is_less(one, two))
 
 
+def word_for(time, its_time, words):
+    """One of four words: the first time is less, both are equal, the other one is less, both are endless."""
+    if time is None and its_time is None:
+        return words[3]
+    if time == its_time:
+        return words[1]
+    if is_sooner(time, its_time):
+        return words[0]
+    return words[2]
+
+
 def time_sum(one, two):
     """The sum of two times, endless if one of them is."""
     if one is None or two is None:

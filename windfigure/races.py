@@ -2,7 +2,7 @@
 from windfigure.angles import amid, by_angle, neighbours, tie_between
 from windfigure.arcs import ALL_WINDS, is_arc, is_in_arc, rows_round
 from windfigure.errors import InvalidArc
-from windfigure.exact import is_sooner
+from windfigure.exact import word_for
 from windfigure.figures import need_figure
 from windfigure.shapes import shape_sides
 from windfigure.winds import need_course, need_wind, pairs_between, stretched_time, turning_winds
@@ -50,14 +50,7 @@ def words_in(figure, course, other, its_course, winds):
 
 
 def word_by_sides(sides, course, its_sides, its_course, wind):
-    time, its_time = stretched_time(sides, course, wind), stretched_time(its_sides, its_course, wind)
-    if time is None and its_time is None:
-        return "neither"
-    if time == its_time:
-        return "level"
-    if is_sooner(time, its_time):
-        return "first"
-    return "other"
+    return word_for(stretched_time(sides, course, wind), stretched_time(its_sides, its_course, wind), WORDS)
 
 
 def word_in(figure, course, other, its_course, wind):
