@@ -452,7 +452,8 @@ class WrongArguments(unittest.TestCase):
         check_arguments(self, dear_share, [FORM_ROW])
 
     def test_channels_that_are_right(self):
-        for channel in CHANNELS + [(2, 4, -1, 6), (0, 2, 0, 1), (0, 1, -10 ** 30, 10 ** 30), (-3, 0, -9, -8)]:
+        for channel in CHANNELS + [(1, 2, -4, 6), (2, 1, -4, 6), (2, 4, -1, 6), (2, 4, -2, 5), (0, 2, 0, 1),
+                                   (0, 1, -10 ** 30, 10 ** 30), (-3, 0, -9, -8)]:
             self.assertEqual(cross_of(channel, (0, 0, 1)), (0, 1))
 
 

@@ -13,7 +13,7 @@ from windfigure.errors import (InvalidFigure, InvalidPoint, InvalidPolygon, Inva
                                InvalidWind, OffWater)
 from windfigure.points import is_point, is_side
 from windfigure.shores import (barring_weights, bars, embayed_by, held_with, holds_in_wind, holds_off, weather_point,
-                               weather_time, weathering_runs, winds_off)
+                               weather_time, weathering_runs, weights_of_two, winds_off)
 
 FIGURES = [KITE, DIAMOND, BOX, WEDGE, BEAM]
 DRIFTING = ((1, -1, 1), (3, -1, 1), (3, 1, 1), (1, 1, 1))
@@ -193,8 +193,53 @@ class Weights(unittest.TestCase):
         self.assertIs(bars(velocities, (EAST, NORTH), (999, 1000)), False)
         self.assertIs(bars(velocities, (EAST, NORTH), (1000, 999)), False)
         self.assertIsNone(barring_weights(((-1, 1, 1), (1, -1, 1)), (EAST, NORTH)))
+        # A corner with the gain 0 wants some weight of the other shore.
+        for velocities in (((-1, 1, 1), (1, 0, 1)), ((0, 1, 1), (1, -1, 1)), ((0, 1, 1), (1, 0, 1))):
+            for shores in ((EAST, NORTH), (NORTH, EAST)):
+                self.assertIs(bars(velocities, shores, barring_weights(velocities, shores)), True)
+
+    def test_the_nearest_of_several_bounds(self):
+        # From the corners in their order the bounds grow tighter for the one shore, and wider for the other one.
+        velocities = ((-4, 5, 1), (-1, 1, 1), (2, -1, 2), (4, -1, 1), (4, 5, 1))
+        for shores in ((EAST, NORTH), (NORTH, EAST)):
+            self.assertEqual(embayed_by(velocities, shores), (0, 1))
+            self.assertIs(bars(velocities, shores, barring_weights(velocities, shores)), True)
+        self.assertIs(bars(velocities, (EAST, NORTH), (4, 10)), False)
+        self.assertIs(bars(velocities, (EAST, NORTH), (11, 10)), False)
+        rng = random.Random(9)
+        many = 0
+        for _ in range(150):
+            # Beyond a line through nought that leads from the second quarter to the fourth one.
+            x, y = rng.randint(1, 9), rng.randint(1, 9)
+            points = [random_point(rng, 9) for _ in range(12)]
+            points = [point for point in points if x * point[0] + y * point[1] > 0]
+            velocities = slow_hull(points + [pt(-9, Fraction(9 * x + 1, y)), pt(Fraction(9 * y + 1, x), -9)])
+            for shores in ((EAST, NORTH), (NORTH, EAST)):
+                weights = barring_weights(velocities, shores)
+                many += len(velocities)
+                self.assertEqual(embayed_by(velocities, shores), (0, 1))
+                self.assertTrue(all(weights) and bars(velocities, shores, weights))
+                self.assertTrue(all(sum(parts) > 0 for parts in zip(
+                    *[[weight * gain for gain in gains_of(shore, velocities)]
+                      for weight, shore in zip(weights, shores)])))
+        self.assertGreater(many, 1000)
         # The second shore cannot be held off by itself; nor can the first one beside it.
         self.assertIs(bars(DRIFTING, (WEST, EAST), barring_weights(DRIFTING, (WEST, EAST))), True)
+
+    def test_bounds_in_any_order(self):
+        # Corners with any numbers, in any order: those that hold off the one shore, the other one, or none.
+        rng = random.Random(10)
+        for _ in range(300):
+            low, high = sorted(Fraction(rng.randint(0, 60), rng.randint(1, 60)) for _ in range(2))
+            corners = [(rng.randint(1, 99), rng.randint(1, 99), 1) for _ in range(rng.randint(0, 2))]
+            for _ in range(rng.randint(1, 5)):
+                size, share = rng.randint(1, 99), rng.choice((Fraction(1), Fraction(rng.randint(0, 9), 9)))
+                corners.append((size, -low * share * size))
+                corners.append((-size * share, high * size + 1))
+            rng.shuffle(corners)
+            corners = [pt(*corner[:2]) for corner in corners]
+            weights = weights_of_two(corners, EAST, NORTH)
+            self.assertTrue(all(weights[0] * x + weights[1] * y > 0 for x, y in map(spot, corners)))
 
 
 def slow_holds_in(figure, stream, shore, wind):

@@ -45,11 +45,9 @@ def lies_between(direction, begin, end):
 def amid(begin, end):
     """Any direction strictly between, on the way from the begin counterclockwise to the end."""
     (x, y), (u, v) = begin, end
-    left = x * v - y * u
-    if left > 0:
+    if x * v - y * u > 0:
         return direction_along(x + u, y + v)
-    if left < 0:
-        return direction_along(-x - u, -y - v)
+    # Half a turn or more lies between, and a quarter of a turn on from the begin.
     return (-y, x)
 
 

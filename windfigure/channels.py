@@ -115,22 +115,20 @@ def runs_between(figure, channel, start, goal):
 
 
 def runs_by_turns(channel, start, tacks, many):
-    """The places along at most so many runs by turns, each as long as its tack and the channel let it be.
+    """The places along so many runs by turns, each as long as its tack and the channel let it be.
 
-    No runs with the same first corner are fewer than these until the tacks are used up.
+    No runs with the same first corner use up the tacks by fewer. If even these do not, the other corner comes first.
     """
     route, left = [start], [time for velocity, time in tacks]
     for index in range(many):
         velocity = tacks[index % len(tacks)][0]
-        time = time_to_wall(channel, route[-1], velocity, left[index % len(tacks)])
-        if time == ZERO:
-            break
+        time = time_in_channel(channel, route[-1], velocity, left[index % len(tacks)])
         left[index % len(tacks)] = ratio_gap(left[index % len(tacks)], time)
         route.append(point_sum(route[-1], point_times(velocity, time)))
     return tuple(route)
 
 
-def time_to_wall(channel, place, velocity, most):
+def time_in_channel(channel, place, velocity, most):
     """How long a run along the velocity stays in the channel, at most the time told."""
     pace = cross_by(channel, velocity)
     if is_less(ZERO, pace):
