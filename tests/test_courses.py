@@ -313,7 +313,7 @@ class InTime(unittest.TestCase):
                     word = "all"
                 self.assertEqual(winds_in_time(figure, course, pair(time)), word)
                 words[word] += 1
-        self.assertGreater(min(words.values()), 40, words)
+        self.assertGreater(min(words.values()), 25, words)
 
 
 FIGURE_ROW = ("figure", KITE, wrong_given(NOT_FIGURE, InvalidFigure))

@@ -331,7 +331,7 @@ class AllWinds(unittest.TestCase):
             slow = slow_holds_in(figure, stream, shore, wind)
             self.assertIs(holds_in_wind(figure, stream, shore, wind), slow)
             seen[slow] += 1
-        self.assertGreater(min(seen.values()), 50, seen)
+        self.assertGreater(min(seen.values()), 30, seen)
 
     def test_winds_of_whole_length(self):
         # There the turned figure is told by fractions, so that its velocities can be looked at one by one.
