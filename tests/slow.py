@@ -1,8 +1,9 @@
-"""Slow answers by other ways for winds, arcs, ways and gates; all by Python's fractions."""
+"""Slow answers by other ways for winds, arcs, ways, gates and chases; all by Python's fractions."""
 from fractions import Fraction
 from math import gcd
 
-from tests.helpers import pair, pt, random_figure, random_point, slow_sides, slow_time, spot
+from tests.helpers import (on_stretch, pair, pt, random_figure, random_point, random_polygon, slow_hull, slow_sides,
+                           slow_time, spot)
 
 NOUGHT = (0, 0, 1)
 
@@ -124,3 +125,54 @@ def slow_route_time(figure, route):
             return None
         total += time
     return total
+
+
+def slow_closing(velocities, bearing, velocity):
+    """The greatest x with velocity + x * bearing on the rim of the polygon; None if there is none."""
+    spots, (u, v), (p, q) = [spot(corner) for corner in velocities], spot(bearing), spot(velocity)
+    found = []
+    for k, (x, y) in enumerate(spots):
+        if (x - p) * v == (y - q) * u:
+            found.append(((x - p) * u + (y - q) * v) / (u * u + v * v))
+        s, t = spots[k - 1][0] - x, spots[k - 1][1] - y
+        if u * t != v * s:
+            number = ((x - p) * t - (y - q) * s) / (u * t - v * s)
+            if on_stretch((p + number * u, q + number * v), (x, y), spots[k - 1]):
+                found.append(number)
+    return max(found) if found else None
+
+
+def bearing_between(chaser, fleer):
+    (x, y), (u, v) = spot(chaser[1]), spot(fleer[1])
+    return pt(u - x, v - y)
+
+
+def slow_catch_time(chaser, fleer):
+    """The time of [43]; None if the fleer is not surely caught."""
+    bearing = bearing_between(chaser, fleer)
+    if bearing == NOUGHT:
+        return Fraction(0)
+    found = [slow_closing(chaser[0], bearing, corner) for corner in fleer[0]]
+    if None in found or min(found) <= 0:
+        return None
+    return 1 / min(found)
+
+
+def random_chase(rng):
+    """Two movers: the fleer's velocities touch the chaser's, are few, or are much smaller, now and then."""
+    velocities = random_polygon(rng, rng.choice((1, 2, 5, 7)), 4, (1, 1, 2))
+    fleeing = random_polygon(rng, rng.choice((1, 2, 3, 5)), 3, (1, 1, 2))
+    kind = rng.choice(("any", "small", "small", "touch", "same", "part"))
+    if kind == "small":
+        x, y = [sum(parts) / len(velocities) for parts in zip(*map(spot, velocities))]
+        fleeing = slow_hull([pt(x + u / 5, y + v / 5) for u, v in map(spot, fleeing)])
+    if kind == "touch":
+        (x, y), (u, v) = spot(rng.choice(velocities)), spot(rng.choice(fleeing))
+        fleeing = slow_hull([pt(s + x - u, t + y - v) for s, t in map(spot, fleeing)])
+    if kind == "same":
+        fleeing = velocities
+    if kind == "part":
+        fleeing = slow_hull(rng.sample(velocities, rng.randint(1, len(velocities))))
+    start = random_point(rng, 3, (1, 1, 2))
+    its_start = start if rng.random() < 0.1 else random_point(rng, 3, (1, 1, 2))
+    return (velocities, start), (fleeing, its_start)

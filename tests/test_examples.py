@@ -163,6 +163,50 @@ CHANNELS = """
 [(4, 1), (1,), (0, 1)]
 """
 
+FIRSTS = """
+>>> from windfigure.firsts import first_parts, firsts_at, greatest_lead, head_start, is_first_in, lead, least_lead, shares_of, time_at
+>>> diamond, box = ((-1, 0, 1), (0, -1, 1), (1, 0, 1), (0, 1, 1)), ((-1, -1, 1), (1, -1, 1), (1, 1, 1), (-1, 1, 1))
+>>> one, two, field = (diamond, (0, 0, 1)), (box, (4, 0, 1)), ((0, 0, 1), (2, 0, 1), (2, 2, 1), (0, 2, 1))
+>>> [time_at(one, (2, 1, 1)), lead(one, two, (2, 1, 1)), least_lead(one, two, field), greatest_lead(one, two, field), is_first_in(one, two, field)]
+[(3, 1), (-1, 1), ((-2, 1), (2, 2, 1)), ((4, 1), (0, 0, 1)), False]
+>>> [first_parts(one, two, field), head_start(one, two), head_start((box, (0, 0, 1)), (diamond, (3, 1, 1)))]
+[(None, None, None, ((0, 0, 1), (2, 0, 1), (1, 2, 1), (0, 2, 1))), None, (3, 1)]
+>>> [firsts_at((one, two), (2, 0, 1)), shares_of((one, two), (0, 0, 1), (4, 0, 1))]
+[(0, 1), ((((0, 1), (1, 2)),), (((1, 2), (1, 1)),))]
+"""
+
+FLIGHTS = """
+>>> from windfigure.meeting import meeting_places, meeting_times
+>>> from windfigure.chase import answer_to, best_flight, catch_time, catches_always, closing, first_catcher, is_caught_from
+>>> from windfigure.flights import catch_places, may_reach, met_in, share_left
+>>> diamond, fast = ((-1, 0, 1), (0, -1, 1), (1, 0, 1), (0, 1, 1)), ((-2, -2, 1), (2, -2, 1), (2, 2, 1), (-2, 2, 1))
+>>> here, there = (diamond, (0, 0, 1)), (diamond, (4, 0, 1))
+>>> [meeting_times(here, there), meeting_places(here, there, (2, 1)), meeting_places(here, there, (3, 1)), meeting_places(here, there, (1, 1))]
+[((2, 1), None), ((2, 0, 1),), ((1, 0, 1), (2, -1, 1), (3, 0, 1), (2, 1, 1)), None]
+>>> chaser, fleer = (fast, (6, 0, 1)), (diamond, (0, 0, 1))
+>>> [closing(fast, (-6, 0, 1), (1, 0, 1)), catch_time(chaser, fleer), best_flight(chaser, fleer), answer_to(chaser, fleer, (0, 1, 1)), catch_time(fleer, chaser)]
+[(1, 2), (6, 1), (-1, 0, 1), (-2, 1, 1), None]
+>>> [catches_always(fast, diamond), catches_always(diamond, diamond), is_caught_from(diamond, diamond, (1, 0, 1)), first_catcher((chaser, (fast, (-3, 0, 1))), fleer)]
+[True, False, False, ((3, 1), 1)]
+>>> [catch_places(chaser, fleer), share_left(chaser, fleer, (((0, 1, 1), (1, 1)),)), met_in(chaser, fleer, (((0, 1, 1), (1, 1)), ((1, 0, 1), (4, 1))))]
+[((-6, 0, 1), (0, -3, 1), (2, 0, 1), (0, 3, 1)), (2, 3), ((7, 3), (4, 3, 3))]
+>>> [may_reach(chaser, fleer, ((0, 3, 1),)), may_reach(chaser, fleer, ((1, 2, 1),))]
+[True, False]
+"""
+
+NOTES = """
+>>> from windfigure.notes import contradiction, kept_notes, least_polygon, least_time, needless_notes, some_figure_fits, status_of, sure_time, told_beside
+>>> LOG = (("made", (4, 0, 1), (2, 1)), ("made", (0, 1, 1), (1, 1)), ("made", (1, 0, 1), (1, 1)), ("barred", (3, 3, 1), (1, 1)), ("barred", (4, 4, 1), (1, 1)))
+>>> [least_polygon(LOG), some_figure_fits(LOG), status_of(LOG, (1, 0, 1)), status_of(LOG, (2, 1, 1)), status_of(LOG, (6, 6, 1))]
+[((0, 0, 1), (2, 0, 1), (0, 1, 1)), True, 'sure', 'open', 'never']
+>>> [sure_time(LOG, (2, 1, 1)), sure_time(LOG, (-1, 0, 1)), least_time(LOG, (1, 1, 1)), least_time(LOG, (1, 0, 1))]
+[(2, 1), None, (1, 3), (0, 1)]
+>>> [needless_notes(LOG), kept_notes(LOG), told_beside(LOG, ((0, 0, 1), (1, 0, 1), (0, 1, 1))), told_beside(LOG, ((0, 0, 1), (9, 0, 1), (0, 9, 1)))]
+[(2, 4), (0, 1, 3), 'sure', 'never']
+>>> contradiction((("made", (2, 0, 1), (1, 1)), ("made", (0, 2, 1), (1, 1)), ("made", (3, 0, 1), (1, 1)), ("barred", (1, 1, 2), (1, 1))))
+(0, 1, 3)
+"""
+
 
 class Examples(unittest.TestCase):
     def run_text(self, text):
@@ -198,6 +242,15 @@ class Examples(unittest.TestCase):
 
     def test_channels(self):
         self.run_text(CHANNELS)
+
+    def test_firsts(self):
+        self.run_text(FIRSTS)
+
+    def test_flights(self):
+        self.run_text(FLIGHTS)
+
+    def test_notes(self):
+        self.run_text(NOTES)
 
     def test_isles(self):
         self.run_text(ISLES)

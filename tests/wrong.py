@@ -1,6 +1,6 @@
-"""Values that are wrong for the parameters of figures, winds, boats, sails, gates, channels and shores."""
-from tests.helpers import (ANY, NO_TUPLES, NOT_DIRECTION, NOT_FIGURE, NOT_FRACTION, NOT_POINT, NOT_SIDE, NOT_TIME,
-                           TRIANGLE, WRONG_WHOLES)
+"""Values that are wrong for parameters, from those of figures and winds on."""
+from tests.helpers import (ANY, NO_TUPLES, NOT_DIRECTION, NOT_FIGURE, NOT_FRACTION, NOT_POINT, NOT_POLYGON, NOT_SIDE,
+                           NOT_TIME, TRIANGLE, WRONG_WHOLES)
 
 NOUGHT = (0, 0, 1)
 KITE = ((-1, 0, 1), (1, -2, 1), (3, 0, 1), (1, 2, 1))
@@ -83,3 +83,19 @@ def not_weights(many):
     wrongs = ANY + [right + (1,), right[1:], list(right), (right,)]
     return wrongs + [right[:at] + (wrong,) + right[at + 1:] for at in range(many) for wrong in WRONG_WHOLES + [
         -1, False, -10 ** 20, None]]
+
+ONE_STARTER, ONE_MOVER = (KITE, (1, 2, 3)), (WEDGE, (1, 2, 3))
+WRONG_STARTERS = rows_of(NOT_STARTER, ONE_STARTER, 4)
+
+NOT_MOVER = ANY + [(KITE,), (KITE, NOUGHT, NOUGHT), [KITE, NOUGHT], (NOUGHT, KITE), KITE, (KITE, (0, 0)),
+                   (KITE[1:] + KITE[:1], NOUGHT), (KITE[::-1], NOUGHT)] + [
+    (wrong, NOUGHT) for wrong in NOT_POLYGON] + [(KITE, wrong) for wrong in NOT_POINT]
+WRONG_MOVERS = rows_of(NOT_MOVER, ONE_MOVER, 6)
+
+NOT_NOTE = ANY + [
+    ("made", NOUGHT), ("made", NOUGHT, (1, 1), (1, 1)), ["made", NOUGHT, (1, 1)], ("made", [0, 0, 1], (1, 1)),
+    (("made",), NOUGHT, (1, 1)), ("made", (1, 1), NOUGHT), ("barred", NOUGHT, (0, 1)), ("made", NOUGHT, (-1, 1)),
+    ("made", NOUGHT, 1), (NOUGHT, (1, 1), "made")] + [
+    (wrong, NOUGHT, (1, 1)) for wrong in ANY + ["Made", "made ", "bar", "sure", "", b"made", ("made",), ["barred"]]] + [
+    ("made", wrong, (1, 1)) for wrong in NOT_POINT] + [("barred", (1, 2, 3), wrong) for wrong in NOT_TIME]
+WRONG_NOTES = rows_of(NOT_NOTE, ("made", (1, 2, 3), (1, 2)), 12, also_empty=False)

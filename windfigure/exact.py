@@ -164,3 +164,25 @@ def in_order(values, comes_before):
         if low == len(found) or found[low] != value:
             found.insert(low, value)
     return found
+
+
+def bounded(rows, low, high):
+    """The least and the greatest number, from low to high, that times each pace is at least what is wanted of it.
+
+    The rows are pairs (wanted, pace). None in the place of low or high stands for no bound; None alone is told if there
+    is no such number.
+    """
+    for wanted, pace in rows:
+        if pace == ZERO:
+            if is_less(ZERO, wanted):
+                return None
+            continue
+        bound = ratio_part(wanted, pace)
+        if is_less(ZERO, pace):
+            if low is None or is_less(low, bound):
+                low = bound
+        elif high is None or is_less(bound, high):
+            high = bound
+    if low is not None and high is not None and is_less(high, low):
+        return None
+    return (low, high)

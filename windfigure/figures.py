@@ -1,7 +1,7 @@
 """Figures: the velocities that a boat can make in one wind, the times of ways, and the tacks that make them."""
 from windfigure.errors import InvalidFigure, InvalidPaces, InvalidTacks, NoArea
-from windfigure.exact import (NOUGHT, ZERO, is_less, parts_along, point_gap, point_sum, point_times, ratio, ratio_gap,
-                              ratio_part, ratio_sum)
+from windfigure.exact import (NOUGHT, ZERO, along, bounded, is_less, parts_along, point_gap, point_sum, point_times,
+                              ratio, ratio_gap, ratio_sum)
 from windfigure.points import is_point, is_time, need_point
 from windfigure.polygons import first_no_point, is_polygon, need_polygon
 from windfigure.shapes import shape_holds, shape_hull, shape_opposite, shape_sides, shape_support
@@ -123,24 +123,9 @@ def times_in_streams(figure, streams, way):
     need_polygon(streams)
     need_point(way)
     against = shape_opposite(streams)
-    low, high = ZERO, None
-    for a, b, h in shape_sides(figure):
-        # In an hour the boat gains at least so much on the side, and at most so much is wanted of it.
-        pace = ratio_gap((h, 1), shape_support(against, a, b))
-        wanted = ratio(a * way[0] + b * way[1], way[2])
-        if pace == ZERO:
-            if is_less(ZERO, wanted):
-                return None
-            continue
-        bound = ratio_part(wanted, pace)
-        if is_less(ZERO, pace):
-            if is_less(low, bound):
-                low = bound
-        elif high is None or is_less(bound, high):
-            high = bound
-    if high is not None and is_less(high, low):
-        return None
-    return (low, high)
+    # In an hour the boat gains at least so much on a side in each of the streams, and so much is wanted of it.
+    rows = [(along(a, b, way), ratio_gap((h, 1), shape_support(against, a, b))) for a, b, h in shape_sides(figure)]
+    return bounded(rows, ZERO, None)
 
 
 def steered(figure, stream, velocity):

@@ -1,6 +1,6 @@
 """Hours: where a boat can be after given hours in a water, and when it can first be somewhere."""
 from windfigure.errors import InvalidHours, InvalidPlaces, InvalidTime
-from windfigure.exact import ZERO, is_less, lesser, point_gap, point_times, ratio, ratio_gap, ratio_sum
+from windfigure.exact import ZERO, bounded, is_less, lesser, point_gap, point_times, ratio_gap, ratio_sum
 from windfigure.points import is_time, need_time
 from windfigure.polygons import first_no_point, is_polygon, need_polygon, need_water
 from windfigure.shapes import (shape_afloat, shape_common, shape_holds, shape_moved, shape_opposite, shape_scaled,
@@ -145,22 +145,14 @@ def time_within(here, hour, aim):
     """
     velocities, length = hour
     gap = shape_sum(here, shape_opposite(aim))
-    low, high = ZERO, length
+    rows = []
     for a, b, _ in shape_sides(shape_sum(gap, velocities)):
-        still, pace = shape_support(gap, a, b), shape_support(velocities, a, b)
-        if pace == ZERO:
-            if is_less(still, ZERO):
-                return None
-            continue
-        bound = ratio(-still[0] * pace[1], still[1] * pace[0])
-        if is_less(ZERO, pace):
-            if is_less(low, bound):
-                low = bound
-        elif is_less(bound, high):
-            high = bound
-    if is_less(high, low):
+        still = shape_support(gap, a, b)
+        rows.append(((-still[0], still[1]), shape_support(velocities, a, b)))
+    found = bounded(rows, ZERO, length)
+    if found is None:
         return None
-    return low
+    return found[0]
 
 
 def latest(water, hours, start, goal):

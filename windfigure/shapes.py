@@ -172,3 +172,23 @@ def shape_area(corners):
         (x, y, w), (u, v, t) = corners[index - 1], corners[index]
         twice = ratio_sum(twice, ratio(x * v - y * u, w * t))
     return ratio(twice[0], 2 * twice[1])
+
+
+def cone_sides(courses):
+    """Sides that together hold just the sums of numbers from 0 on times the courses.
+
+    A course is a pair of whole numbers, not both 0. All lie in one half of the plane, its rim included.
+    """
+    found = []
+    for u, v in courses:
+        for a, b in ((v, -u), (-v, u)):
+            side = side_of(a, b, ZERO)
+            if side not in found and all([a * x + b * y <= 0 for x, y in courses]):
+                found.append(side)
+    if not courses:
+        return [side_of(a, b, ZERO) for a, b in AXES]
+    u, v = courses[0]
+    if all([u * y == v * x and u * x + v * y > 0 for x, y in courses]):
+        # All go one way: what is against them is barred as well as what is beside.
+        found.append(side_of(-u, -v, ZERO))
+    return found
