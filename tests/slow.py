@@ -176,3 +176,12 @@ def random_chase(rng):
     start = random_point(rng, 3, (1, 1, 2))
     its_start = start if rng.random() < 0.1 else random_point(rng, 3, (1, 1, 2))
     return (velocities, start), (fleeing, its_start)
+
+
+def meeting_of_lines(one, two, a, b):
+    """In a list the point of a stretch on the line a * x + b * y = 0; none if there is not just one."""
+    low, high = a * one[0] + b * one[1], a * two[0] + b * two[1]
+    if low == high or low * high > 0:
+        return []
+    share = low / (low - high)
+    return [(one[0] + share * (two[0] - one[0]), one[1] + share * (two[1] - one[1]))]

@@ -207,6 +207,35 @@ NOTES = """
 (0, 1, 3)
 """
 
+READSTREAMS = """
+>>> from windfigure.readstreams import stream_fits, streams_that_fit, trips_at_odds
+>>> BOAT = ((-1, 0, 1), (1, -2, 1), (3, 0, 1), (1, 2, 1))
+>>> [streams_that_fit(BOAT, (((4, 0, 1), (2, 1)),)), streams_that_fit(BOAT, (((2, 0, 1), (1, 1)), ((-2, 0, 1), (1, 1))))]
+[((-1, 0, 1), (1, -2, 1), (3, 0, 1), (1, 2, 1)), ((-1, 0, 1),)]
+>>> [trips_at_odds(BOAT, (((2, 0, 1), (1, 1)), ((-2, 0, 1), (1, 1)), ((-3, 0, 1), (1, 1)))), stream_fits(BOAT, (((2, 0, 1), (1, 1)),), (0, 0, 1))]
+[(0, 2), True]
+"""
+
+WORKSHOP = """
+>>> from windfigure.consoles import Console
+>>> from windfigure.workshops import Workshop
+>>> from windfigure.checker import accepts
+>>> from windfigure.certificates import certify_boats, certify_way
+>>> shop = Workshop()
+>>> console = Console(shop)
+>>> [console.say("put gull: 3 0 1; 1 2 1; 1 -2 1; -1 0 1"), console.say("put tern: 2 0 1; 0 2 1"), console.say("names"), console.say("figure tern"), console.say("time gull: 6 0 1"), console.say("time tern: -1 0 1"), console.say("later gull: tern")]
+['done', 'done', 'gull tern', '0 0 1; 2 0 1; 0 2 1', '2/1', 'endless', '0 2 1']
+>>> shop.wish(("in time", "gull", (6, 0, 1), (2, 1)))
+>>> console.say("put gull: 2 0 1; 0 2 1")
+Traceback (most recent call last):
+windfigure.errors.Broken: 0
+>>> tern, gull = shop.named("tern"), shop.named("gull")
+>>> [certify_way(tern, (3, 1, 1), (2, 1))[0], certify_way(tern, (3, 1, 1), (1, 1)), certify_boats(gull, tern)[0]]
+[('in time', ((0, 0, 1), (2, 0, 1), (0, 2, 1)), (3, 1, 1), (2, 1)), (('too late', ((0, 0, 1), (2, 0, 1), (0, 2, 1)), (3, 1, 1), (1, 1)), (1, 1, 2)), ('later', ((-1, 0, 1), (1, -2, 1), (3, 0, 1), (1, 2, 1)), ((0, 0, 1), (2, 0, 1), (0, 2, 1)))]
+>>> [accepts(("too late", tern, (3, 1, 1), (1, 1)), (1, 1, 2)), accepts(("caught", (gull, (0, 0, 1)), (gull, (1, 0, 1)), (9, 1)), ())]
+[True, False]
+"""
+
 
 class Examples(unittest.TestCase):
     def run_text(self, text):
@@ -251,6 +280,13 @@ class Examples(unittest.TestCase):
 
     def test_notes(self):
         self.run_text(NOTES)
+
+    def test_readstreams(self):
+        self.run_text(READSTREAMS)
+
+    def test_workshop(self):
+        # What the console raises is told here as Python shows it.
+        self.run_text(WORKSHOP)
 
     def test_isles(self):
         self.run_text(ISLES)

@@ -10,14 +10,16 @@ FILES = sorted(PACKAGE.glob("*.py"))
 PYTHONS_OWN = set(dir(builtins)) - {"_"}
 LIBRARY = {("math", "gcd"), ("math", "lcm"), ("itertools", "permutations"), ("itertools", "combinations")}
 BUILTINS = set("""len range enumerate zip min max sum abs sorted reversed int str bool bytes list tuple dict set isinstance
-any all divmod ValueError""".split())
-METHODS = {"append", "insert", "pop", "remove", "__init__"}
+any all divmod property ValueError""".split())
+METHODS = {"append", "insert", "pop", "remove", "join", "partition", "removeprefix", "split"}
+# The methods of the package's own classes.
+OWN_METHODS = {"put", "drop", "wish", "lift", "named", "undo", "trial", "tried", "say", "need_known", "change"}
+DOUBLE = {"__init__", "__enter__", "__exit__", "__len__", "__bool__", "__contains__"}
 BARRED = set("""type typing enum Enum Flag Generic Protocol ABC namedtuple dataclass overload contextmanager register mro
 elements open input law id dir vars eval exec compile help super sys os gc""".split())
 FUNCTIONS = (ast.FunctionDef, ast.Lambda)
 NOT_ALLOWED = (ast.AsyncFunctionDef, ast.Global, ast.Nonlocal, ast.GeneratorExp, ast.Yield, ast.YieldFrom, ast.Div,
-               ast.Lambda, ast.Try, ast.With, ast.NamedExpr, ast.Starred, ast.AnnAssign, ast.MatMult, ast.Pow,
-               ast.JoinedStr, ast.Delete)
+               ast.Lambda, ast.NamedExpr, ast.AnnAssign, ast.MatMult, ast.Pow, ast.Delete, ast.Match)
 
 
 def trees():
@@ -75,7 +77,22 @@ class Files(unittest.TestCase):
                     node, (ast.ImportFrom, ast.FunctionDef, ast.ClassDef, ast.Assign)), path.name)
                 if isinstance(node, ast.Assign):
                     self.assertEqual(len(node.targets), 1)
-                    ast.literal_eval(node.value)
+                    above = [other.name for other in tree.body if isinstance(other, ast.FunctionDef)
+                             and other.lineno < node.lineno]
+                    self.check_plain(node.value, above)
+
+    def check_plain(self, value, functions):
+        """A literal, or a dict or a tuple of literals and of functions of the same file."""
+        if isinstance(value, ast.Dict):
+            for part in value.keys + value.values:
+                self.check_plain(part, functions)
+        elif isinstance(value, ast.Tuple):
+            for part in value.elts:
+                self.check_plain(part, functions)
+        elif isinstance(value, ast.Name):
+            self.assertIn(value.id, functions)
+        else:
+            ast.literal_eval(value)
 
 
 class Imports(unittest.TestCase):
@@ -150,7 +167,15 @@ class Names(unittest.TestCase):
         for path, tree in trees():
             for node in ast.walk(tree):
                 if isinstance(node, ast.Call) and isinstance(node.func, ast.Attribute):
-                    self.assertIn(node.func.attr, METHODS, path.name)
+                    self.assertIn(node.func.attr, METHODS | OWN_METHODS, path.name)
+
+    def test_own_methods(self):
+        for path, tree in trees():
+            for node in ast.walk(tree):
+                if isinstance(node, ast.ClassDef):
+                    for method in functions_of(node):
+                        self.assertIn(method.name, OWN_METHODS | DOUBLE | {"names", "wishes"}, path.name)
+                        self.assertEqual(method.args.args[0].arg, "self")
 
 
 class Statements(unittest.TestCase):
@@ -158,7 +183,32 @@ class Statements(unittest.TestCase):
         for path, tree in trees():
             for node in ast.walk(tree):
                 self.assertNotIsInstance(node, NOT_ALLOWED, (path.name, getattr(node, "lineno", None)))
-                self.assertEqual(getattr(node, "decorator_list", []), [], path.name)
+                for decorator in getattr(node, "decorator_list", []):
+                    self.assertEqual(ast.unparse(decorator), "property", path.name)
+                if isinstance(node, ast.Starred):
+                    self.assertIsInstance(node.value, ast.Name, path.name)
+
+    def test_handlers_name_the_own_base_class(self):
+        for path, tree in trees():
+            for node in ast.walk(tree):
+                if isinstance(node, ast.Try):
+                    self.assertEqual([handler.type.id for handler in node.handlers], ["WindError"], path.name)
+                    self.assertEqual((node.finalbody, node.orelse, len(node.body)), ([], [], 1), path.name)
+
+    def test_with_stands_over_a_trial(self):
+        for path, tree in trees():
+            for node in ast.walk(tree):
+                if isinstance(node, ast.With):
+                    self.assertEqual([ast.unparse(item.context_expr) for item in node.items], ["self.trial()"])
+
+    def test_leaving_a_with_statement(self):
+        for path, tree in trees():
+            for node in functions_of(tree):
+                if node.name == "__exit__":
+                    for part in ast.walk(node):
+                        self.assertNotIsInstance(part, (ast.Call, ast.Return, ast.Subscript, ast.BinOp, ast.For))
+                    rows = [ast.unparse(part.test) for part in ast.walk(node) if isinstance(part, ast.If)]
+                    self.assertEqual(rows, ["kind is not None"])
 
     def test_values(self):
         for path, tree in trees():

@@ -99,3 +99,40 @@ NOT_NOTE = ANY + [
     (wrong, NOUGHT, (1, 1)) for wrong in ANY + ["Made", "made ", "bar", "sure", "", b"made", ("made",), ["barred"]]] + [
     ("made", wrong, (1, 1)) for wrong in NOT_POINT] + [("barred", (1, 2, 3), wrong) for wrong in NOT_TIME]
 WRONG_NOTES = rows_of(NOT_NOTE, ("made", (1, 2, 3), (1, 2)), 12, also_empty=False)
+
+WRONG_TRIPS = rows_of(NOT_TACK, ((1, 2, 3), (1, 2)), 12)
+
+NOT_NAME = ANY + ["Gull", "gull ", " gull", "gu ll", "gull1", "1", "gu_ll", "gull\n", "GULL", "abcdefghijklm", "-", "a-b",
+                  "{", "`", ("gull",), ["gull"], b"gull", "x" * 4000]
+NOT_NAME = [value for value in NOT_NAME if not isinstance(value, str) or value != "x"]
+
+WISHES = (("in time", "gull", (6, 0, 1), (2, 1)), ("never later", "gull", "tern"),
+          ("never behind", "gull", ((1, 2, 3),), "tern", ((1, 2, 3), (4, 0, 1))), ("all winds", "gull", ((1, 2, 3),)),
+          ("catches", "gull", "tern"), ("holds off", "gull", (1, 2, 3), ((1, 2, 3), (0, 1, 0))))
+
+
+def bent_parts(value, wrongs, at):
+    """The tuple with each of the wrong values in the place of one part."""
+    return [value[:at] + (wrong,) + value[at + 1:] for wrong in wrongs]
+
+
+def not_wishes():
+    found = list(ANY)
+    for wish in WISHES:
+        found += [wish[:-1], wish[1:], wish + (None,), wish + wish[-1:], list(wish), (wish,), wish[::-1], wish[:1]]
+        found += bent_parts(wish, ANY + ["In time", "in  time", "too late", "later", wish[0] + " ", b"catches"], 0)
+        for at in range(1, len(wish)):
+            wrongs = NOT_NAME
+            if isinstance(wish[at], tuple):
+                wrongs = {"in time": NOT_POINT, "holds off": NOT_POINT}.get(wish[0], [])
+                if at == 3 and wish[0] == "in time":
+                    wrongs = NOT_TIME
+                if at == 3 and wish[0] == "holds off":
+                    wrongs = [value for value, index in WRONG_SHORES]
+                if wish[0] in ("never behind", "all winds"):
+                    wrongs = [value for value, index in WRONG_COURSE]
+            found += bent_parts(wish, wrongs, at)
+    return found
+
+
+NOT_WISH = not_wishes()
