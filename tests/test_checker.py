@@ -120,6 +120,9 @@ class Papers(unittest.TestCase):
         good = [(ROUTE, HEIGHTS), (ROUTE[:1] + ROUTE, HEIGHTS), (ROUTE[:2] + ((2, -1, 1),) + ROUTE[2:], HEIGHTS),
                 (ROUTE, ((2, 1), (4, 1), (2, 1))), (ROUTE[:2] + ((1, -1, 1),) * 36 + ROUTE[2:], HEIGHTS)]
         longer = ((0, 0, 1), (2, 2, 1), (4, 0, 1))
+        # Routes that take six hours, too, but have another end or both other ends.
+        self.check(claim, good[:1], [(route, HEIGHTS) for route in (
+            ((0, 0, 1), (-6, 0, 1)), ((10, 0, 1), (4, 0, 1)), ((0, 9, 1), (6, 9, 1)), ROUTE[::-1])])
         self.check(claim, good, [
             (ROUTE, HEIGHTS[:2]), (ROUTE, HEIGHTS + ((9, 1),)), (ROUTE, ((2, 1), (5, 1), (4, 1))),
             (ROUTE, ((0, 1), (2, 1), (1, 1))), (ROUTE, (None, None, None)), (ROUTE, None), (ROUTE, list(HEIGHTS)),

@@ -1,6 +1,8 @@
 """The console of [54]: lines of text, their answers, and what is no line."""
 import random
+import re
 import unittest
+from math import gcd
 
 from tests.helpers import ANY, Odd, check_raised, random_figure, random_point, slow_hull, slow_time, told_time
 from tests.test_workshops import check_refused, shop_with, state_of
@@ -159,7 +161,43 @@ def bent_lines():
     return found
 
 
+NAME, WHOLE = "[a-z]{1,12}", "(?:0|-?[1-9][0-9]*)"
+POINT = f"{WHOLE} {WHOLE} {WHOLE}"
+FORMS = [f"put {NAME}: ({POINT}(?:; {POINT})*)", f"drop {NAME}", "undo", "names", f"figure {NAME}",
+         f"time {NAME}: ({POINT})", f"later {NAME}: {NAME}"]
+
+
+def is_line(line):
+    """Whether a line is of a form, and its points are points, with an area if they are put."""
+    for form in FORMS:
+        match = re.fullmatch(form, line)
+        if match:
+            points = [tuple(map(int, text.split())) for text in match.group(1).split("; ")] if match.groups() else []
+            if not all(w > 0 and gcd(x, y, w) == 1 for x, y, w in points):
+                return False
+            return not line.startswith("put") or len(slow_hull([(0, 0, 1)] + points)) > 2
+    return False
+
+
 class Wrong(unittest.TestCase):
+    def test_one_sign_too_many_or_too_few(self):
+        seen = {True: 0, False: 0}
+        for line in RIGHT:
+            bent = [line[:at] + line[at + 1:] for at in range(len(line))]
+            bent += [line[:at] + sign + line[at:] for at in range(len(line) + 1) for sign in " 01-+:;ag\n.,"]
+            bent += [line[:at] + sign + line[at + 1:] for at in range(len(line)) for sign in " 02-:;bA"]
+            for it in bent:
+                shop, console = console_with(gull=KITE)
+                seen[is_line(it)] += 1
+                if is_line(it):
+                    try:
+                        self.assertIsInstance(console.say(it), str)
+                    except UnknownName as error:
+                        self.assertIn(error.given, it)
+                else:
+                    check_refused(self, shop, InvalidPhrase, "given", it, console.say, it)
+        self.assertGreater(min(seen.values()), 100, seen)
+
     def test_right_lines(self):
         for line in RIGHT:
             shop, console = console_with(gull=KITE)

@@ -172,37 +172,42 @@ def shows_embayed(polygon, shores, paper):
     return bars(polygon, shores, paper)
 
 
-# How many parts a claim has behind its word, and what tells whether a paper shows it.
+# How many parts a claim has behind its word.
+PARTS = {
+    "in time": 3, "too late": 3, "never later": 2, "later": 2, "never behind": 4, "behind": 4, "known": 5,
+    "barred": 5, "sure": 6, "unsure": 6, "soonest": 5, "first": 3, "not first": 3, "caught": 3, "free": 3, "fits": 2,
+    "no figure": 1, "held off": 2, "embayed": 2,
+}
 CHECKS = {
-    "in time": (3, shows_in_time),
-    "too late": (3, shows_too_late),
-    "never later": (2, shows_never_later),
-    "later": (2, shows_later),
-    "never behind": (4, shows_never_behind),
-    "behind": (4, shows_behind),
-    "known": (5, shows_known),
-    "barred": (5, shows_barred),
-    "sure": (6, shows_sure),
-    "unsure": (6, shows_unsure),
-    "soonest": (5, shows_soonest),
-    "first": (3, shows_first),
-    "not first": (3, shows_not_first),
-    "caught": (3, shows_caught),
-    "free": (3, shows_free),
-    "fits": (2, shows_fits),
-    "no figure": (1, shows_no_figure),
-    "held off": (2, shows_held_off),
-    "embayed": (2, shows_embayed),
+    "in time": shows_in_time,
+    "too late": shows_too_late,
+    "never later": shows_never_later,
+    "later": shows_later,
+    "never behind": shows_never_behind,
+    "behind": shows_behind,
+    "known": shows_known,
+    "barred": shows_barred,
+    "sure": shows_sure,
+    "unsure": shows_unsure,
+    "soonest": shows_soonest,
+    "first": shows_first,
+    "not first": shows_not_first,
+    "caught": shows_caught,
+    "free": shows_free,
+    "fits": shows_fits,
+    "no figure": shows_no_figure,
+    "held off": shows_held_off,
+    "embayed": shows_embayed,
 }
 
 
 def accepts(claim, paper):
     if not isinstance(claim, tuple) or claim == () or not isinstance(claim[0], str) or claim[0] not in CHECKS:
         return False
-    many, shows = CHECKS[claim[0]]
     parts = claim[1:]
-    if len(parts) != many:
+    if len(parts) != PARTS[claim[0]]:
         return False
+    shows = CHECKS[claim[0]]
     try:
         return shows(*parts, paper)
     except WindError:

@@ -1,7 +1,7 @@
 """Flights: how a chase goes on while the fleer takes one velocity after another, and where it can be met."""
 from windfigure.chase import bearing_of, closing_by, least_catch_time, need_chase
 from windfigure.errors import InvalidFlight, NotSure
-from windfigure.exact import (NOUGHT, ONE, ZERO, along, is_less, point_sum, point_times, ratio_gap, ratio_part,
+from windfigure.exact import (NOUGHT, ONE, ZERO, along, lesser, point_sum, point_times, ratio_gap, ratio_part,
                               ratio_product, ratio_sum)
 from windfigure.figures import is_tack
 from windfigure.forms import part_below
@@ -50,13 +50,10 @@ def chase_along(chaser, fleer, flight):
     left, gone, place = ONE, ZERO, fleer[1]
     for velocity, length in flight:
         found = closing_by(sides, bearing, velocity)
-        wanted = ratio_part(left, found)
-        is_met = not is_less(length, wanted)
-        time = wanted if is_met else length
+        # When the fleer has been met nothing is left, and no more time goes by.
+        time = lesser(length, ratio_part(left, found))
         left = ratio_gap(left, ratio_product(found, time))
         gone, place = ratio_sum(gone, time), point_sum(place, point_times(velocity, time))
-        if is_met:
-            break
     return (left, gone, place)
 
 

@@ -124,8 +124,6 @@ def least_time(notes, way):
     need_point(way)
     need_agreement(notes)
     least, longest = hull_of_made(notes), ZERO
-    if way == NOUGHT:
-        return ZERO
     for barred in velocities_with(notes, "barred"):
         # Never is what lies behind the barred velocity as it is seen from the least polygon.
         behind = cone_sides([course_to(velocity, barred) for velocity in least])
